@@ -1,0 +1,64 @@
+"""The interface: what must exist under which name, where it is defined, what it takes."""
+
+import importlib
+import inspect
+import unittest
+
+from turnedtunes.books import Book
+from turnedtunes.ties import Tie
+
+# module: {class: (attributes, methods)}
+CLASSES = {
+    "ties": {"Tie": (("first", "second", "length", "amount", "down", "backward", "text"), ("of", "led", "part"))},
+    "books": {"Book": (("text", "size", "ties", "notes"), ("with_tie", "without", "with_note"))},
+}
+OBJECTS = {"Tie": Tie(0, 1, 2), "Book": Book("size 4")}
+
+PARAMETERS = {
+    Tie: "(first, second, length, amount=0, *, down=False, backward=False)",
+    Tie.of: "(text)",
+    Tie.__call__: "(self, place)",
+    Tie.led: "(self, note)",
+    Tie.part: "(self, start, length)",
+    Book: "(text)",
+    Book.with_tie: "(self, tie)",
+    Book.without: "(self, number)",
+    Book.with_note: "(self, place, note)",
+}
+
+OPERATORS = {
+    Tie: ("__call__", "__invert__", "__rshift__", "__mul__", "__eq__"),
+    Book: ("__len__", "__getitem__", "__contains__", "__or__", "__add__", "__invert__", "__neg__", "__eq__"),
+}
+
+
+class Interface(unittest.TestCase):
+
+    def test_each_class_is_defined_in_its_file(self):
+        for module, classes in CLASSES.items():
+            for name in classes:
+                found = getattr(importlib.import_module(f"turnedtunes.{module}"), name)
+                self.assertTrue(inspect.isclass(found))
+                self.assertEqual(found.__module__, f"turnedtunes.{module}")
+
+    def test_attributes_are_set_when_an_object_is_created(self):
+        for classes in CLASSES.values():
+            for name, (attributes, _) in classes.items():
+                self.assertLessEqual(set(attributes), set(vars(OBJECTS[name])))
+
+    def test_methods_are_defined_in_the_class_itself(self):
+        for classes in CLASSES.values():
+            for name, (_, methods) in classes.items():
+                self.assertLessEqual(set(methods), set(vars(type(OBJECTS[name]))))
+
+    def test_operators_are_defined_in_the_class_itself(self):
+        for one, methods in OPERATORS.items():
+            self.assertLessEqual(set(methods), set(vars(one)))
+
+    def test_what_they_take(self):
+        for what, wanted in PARAMETERS.items():
+            self.assertEqual(str(inspect.signature(what)), wanted)
+
+
+if __name__ == "__main__":
+    unittest.main()

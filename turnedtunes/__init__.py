@@ -1,0 +1,1 @@
+"""All melodies some parts of which are others, raised, upside down, backward."""
