@@ -171,9 +171,9 @@ def _book_of(size, ties, notes):
     """The book of these, written anew."""
     if len(ties) > MOST or len(notes) > MOST:
         raise Full(MOST)
-    told = [f"tie {tie.text}" for tie in ties]
-    heard = [f"note {place} {written(note)}" for place, note in notes]
-    return Book("\n".join([f"size {size}", *told, *heard]))
+    tie_lines = [f"tie {tie.text}" for tie in ties]
+    note_lines = [f"note {place} {written(note)}" for place, note in notes]
+    return Book("\n".join([f"size {size}", *tie_lines, *note_lines]))
 
 
 def _moved(tie, by):
