@@ -2,6 +2,7 @@
 
 import unittest
 from itertools import product
+from random import Random
 
 from turnedtunes.books import Book
 from turnedtunes.ties import Tie
@@ -79,3 +80,124 @@ def keeps(book, melody):
                 for tie in book.ties for place, (partner, amount, sign) in pairs(tie).items())
         and all(melody[place] == note for place, note in book.notes)
     )
+
+
+def text(*lines):
+    return "\n".join(lines)
+
+
+def book_of(size, ties=(), notes=()):
+    """The book of these ties, and these (place, note)."""
+    return Book(text(f"size {size}", *[f"tie {tie.text}" for tie in ties],
+                     *[f"note {place} {note}" for place, note in notes]))
+
+
+def lead_on(lead, other):
+    """One lead behind another one; a lead (amount, sign) makes amount + sign * x of x."""
+    return other[0] + other[1] * lead[0], lead[1] * other[1]
+
+
+def roads(book):
+    """What a small book says, place by place: (place, partner, lead), in both directions."""
+    found = []
+    for tie in book.ties:
+        for place, (partner, amount, sign) in pairs(tie).items():
+            found.append((place, partner, (amount, sign)))
+            found.append((partner, place, (-sign * amount, sign)))
+    return found + [(place, place, (2 * note, -1)) for place, note in book.notes]
+
+
+def hung(book):
+    """What hangs tells of each place of a small book, got by joining all places one by one; None if it clashes."""
+    ways = {place: [] for place in range(book.size)}
+    for place, partner, lead in roads(book):
+        ways[place].append((partner, lead))
+    found = [None] * book.size
+    for least in range(book.size):
+        if found[least] is None:
+            for place, told in hung_on(least, ways).items():
+                found[place] = told
+    return None if None in found else found
+
+
+def hung_on(least, ways):
+    """What is told of all places that are joined with the least of them; None where it clashes."""
+    leads, note, waiting = {least: (0, 1)}, None, [least]
+    clash = False
+    while waiting:
+        place = waiting.pop()
+        for partner, lead in ways[place]:
+            amount, sign = lead_on(leads[place], lead)
+            if partner not in leads:
+                leads[partner] = amount, sign
+                waiting.append(partner)
+            elif leads[partner] != (amount, sign):
+                known, other = leads[partner]
+                twice = (known - amount) * sign
+                clash = clash or sign == other or twice % 2 == 1 or note not in (None, twice // 2)
+                note = twice // 2
+    if clash:
+        return {place: None for place in leads}
+    if note is not None:
+        return {place: ("told", amount + sign * note) for place, (amount, sign) in leads.items()}
+    return {place: ("up" if sign == 1 else "down", least, amount) for place, (amount, sign) in leads.items()}
+
+
+def between(one, other):
+    """What interval tells of two places, of what hangs tells of them."""
+    if one[0] == other[0] == "told":
+        return "up", other[1] - one[1]
+    if "told" in (one[0], other[0]) or one[1] != other[1]:
+        return ("open",)
+    if one[0] == other[0]:
+        return "up", other[2] - one[2]
+    return "down", one[2] + other[2]
+
+
+def melody_by(told, chosen):
+    """A melody as a list of notes: chosen[q] is the note of each free place q."""
+    signs = {"up": 1, "down": -1}
+    return [what[1] if what[0] == "told" else what[2] + signs[what[0]] * chosen[what[1]] for what in told]
+
+
+def drawn_tie(draw, size, tune=None):
+    """A tie of so many places; a tune, where there is one, keeps it."""
+    length = draw.randint(1, size)
+    first, second = draw.randint(0, size - length), draw.randint(0, size - length)
+    down, backward = draw.random() < .3, draw.random() < .4
+    tie = Tie(first, second, length, draw.choice((0, 0, 2, -2, 1, -3)), down=down, backward=backward)
+    if tune is None:
+        return tie
+    amount = tune[tie(first)] + (tune[first] if down else -tune[first])
+    tie = Tie(first, second, length, amount, down=down, backward=backward)
+    kept = 1
+    while kept < length and tune[tie(first + kept)] == tie.led(tune[first + kept]):
+        kept += 1
+    return tie.part(0, kept)
+
+
+def drawn_tune(draw, size):
+    """A melody that goes on by a figure, higher each time, so that long ties keep it."""
+    figure = [draw.randint(-2, 2) for _ in range(draw.randint(1, size))]
+    step = draw.randint(-1, 2)
+    return [figure[place % len(figure)] + place // len(figure) * step for place in range(size)]
+
+
+def drawn_books(seed, many, greatest=14, ties=4):
+    """Small books: some that a tune keeps, and some that perhaps no melody keeps."""
+    draw = Random(seed)
+    for _ in range(many):
+        size = draw.randint(1, greatest)
+        tune = drawn_tune(draw, size)
+        kept = draw.random() < .6
+        told = [drawn_tie(draw, size, tune if kept else None) for _ in range(draw.randint(0, ties))]
+        places = draw.sample(range(size), min(size, draw.choice((0, 0, 1, 2))))
+        yield book_of(size, told, [(place, tune[place]) for place in places])
+
+
+def kept_books(seed, many, greatest=14, ties=4):
+    """(book, what hangs tells of each place), of drawn books that some melody keeps."""
+    for book in drawn_books(seed, many, greatest, ties):
+        told = hung(book)
+        if told is not None:
+            yield book, told

@@ -5,14 +5,25 @@ import inspect
 import unittest
 
 from turnedtunes.books import Book
+from turnedtunes.melodies import Melody
 from turnedtunes.ties import Tie
 
 # module: {class: (attributes, methods)}
 CLASSES = {
     "ties": {"Tie": (("first", "second", "length", "amount", "down", "backward", "text"), ("of", "led", "part"))},
     "books": {"Book": (("text", "size", "ties", "notes"), ("with_tie", "without", "with_note"))},
+    "melodies": {"Melody": (("pieces", "size", "new"), ("played",))},
 }
-OBJECTS = {"Tie": Tie(0, 1, 2), "Book": Book("size 4")}
+OBJECTS = {"Tie": Tie(0, 1, 2), "Book": Book("size 4"), "Melody": Melody((("new", 1),))}
+
+# module: {function: parameters}
+FUNCTIONS = {
+    "hanging": {"hangs": "(book, place)", "free": "(book)", "free_parts": "(book)", "heard": "(book, first, length)"},
+    "melodies": {"keeps": "(book, melody)", "general": "(book)", "shows_general": "(book, value)"},
+    "lines": {"why": "(book, place)", "shows_why": "(book, place, value)", "fits": "(book)",
+              "shows_fits": "(book, value)"},
+    "intervals": {"interval": "(book, one, other)", "follows": "(book, tie)", "needless": "(book)"},
+}
 
 PARAMETERS = {
     Tie: "(first, second, length, amount=0, *, down=False, backward=False)",
@@ -24,11 +35,14 @@ PARAMETERS = {
     Book.with_tie: "(self, tie)",
     Book.without: "(self, number)",
     Book.with_note: "(self, place, note)",
+    Melody: "(pieces)",
+    Melody.played: "(self, look, first, length)",
 }
 
 OPERATORS = {
     Tie: ("__call__", "__invert__", "__rshift__", "__mul__", "__eq__"),
     Book: ("__len__", "__getitem__", "__contains__", "__or__", "__add__", "__invert__", "__neg__", "__eq__"),
+    Melody: ("__getitem__", "__eq__"),
 }
 
 
@@ -54,6 +68,14 @@ class Interface(unittest.TestCase):
     def test_operators_are_defined_in_the_class_itself(self):
         for one, methods in OPERATORS.items():
             self.assertLessEqual(set(methods), set(vars(one)))
+
+    def test_each_function_is_defined_in_its_file(self):
+        for module, functions in FUNCTIONS.items():
+            for name, wanted in functions.items():
+                found = getattr(importlib.import_module(f"turnedtunes.{module}"), name)
+                self.assertTrue(inspect.isfunction(found))
+                self.assertEqual(found.__module__, f"turnedtunes.{module}")
+                self.assertEqual(str(inspect.signature(found)), wanted)
 
     def test_what_they_take(self):
         for what, wanted in PARAMETERS.items():

@@ -124,6 +124,37 @@ class Language(unittest.TestCase):
                     yield node.id
         self.each(wrong)
 
+    def test_nothing_is_named_like_an_import_or_a_class_of_its_file(self):
+        def wrong(path):
+            taken = {alias.name for node in nodes(path) if isinstance(node, ast.ImportFrom) for alias in node.names}
+            taken |= {node.name for node in nodes(path) if isinstance(node, ast.ClassDef)}
+            for node in nodes(path):
+                if isinstance(node, ast.Name) and isinstance(node.ctx, ast.Store) and node.id in taken:
+                    yield node.id
+                if isinstance(node, ast.arg) and node.arg in taken:
+                    yield node.arg
+        self.each(wrong)
+
+    def test_no_generator_expressions_and_no_sort_in_place(self):
+        # Classes of the package have __eq__ and operators: so lists are handed on.
+        self.each(lambda path: [node.lineno for node in nodes(path) if isinstance(node, ast.GeneratorExp)])
+        self.each(lambda path: [node.lineno for node in nodes(path)
+                                if isinstance(node, ast.Attribute) and node.attr == "sort"])
+
+    def test_stars_in_calls_stand_before_names(self):
+        plain = (ast.Name, ast.Attribute, ast.Constant, ast.List, ast.Tuple)
+        self.each(lambda path: [node.lineno for node in nodes(path) if isinstance(node, ast.Call)
+                                for given in node.args
+                                if isinstance(given, ast.Starred) and not isinstance(given.value, plain)])
+
+    def test_no_two_files_import_from_each_other(self):
+        above = {path.stem: {node.module.split(".")[1] for node in nodes(path)
+                             if isinstance(node, ast.ImportFrom) and "." in node.module} for path in FILES}
+        while above:
+            free = [name for name in above if not above[name]]
+            self.assertTrue(free, above)
+            above = {name: above[name] - set(free) for name in above if name not in free}
+
     def test_no_floats(self):
         self.each(lambda path: [node.lineno for node in nodes(path)
                                 if isinstance(node, ast.Div)
