@@ -156,7 +156,8 @@ class Refused(Case):
     def test_other_forms(self):
         for piece in (("new",), ("new", 1, 1), ("New", 1), ("old", 1), (1, "new"), ("notes", 1), ("notes", 1, 1, 1),
                       ("notes",), ("copy",), ("copy", 0, 1), ("copy", 0, 1, 0, False), ("kopy", 0, 1, 0, False, False),
-                      (None, 1), ([], 1), ((), 1), ("copy", 0, 1, 0, False, False, False), (Tie(0, 1, 1), 1), ("", 1), (True, 1)):
+                      (None, 1), ([], 1), ((), 1), ("copy", 0, 1, 0, False, False, False), (Tie(0, 1, 1), 1),
+                      ("", 1), (True, 1)):
             self.bad((piece,))
             self.bad((("new", 3), piece))
             self.bad((("new", 3), piece, ("new", 1)))
