@@ -23,6 +23,9 @@ FUNCTIONS = {
     "lines": {"why": "(book, place)", "shows_why": "(book, place, value)", "fits": "(book)",
               "shows_fits": "(book, value)"},
     "intervals": {"interval": "(book, one, other)", "follows": "(book, tie)", "needless": "(book)"},
+    "counting": {"many": "(book, place, upto)", "nth": "(book, place, number)", "told": "(book, upto)"},
+    "compass": {"compass": "(book)", "room": "(book, low, high)", "reach": "(book, place, low, high)"},
+    "comparing": {"within": "(one, other)", "alike": "(one, other)"},
 }
 
 PARAMETERS = {

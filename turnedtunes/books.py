@@ -1,8 +1,9 @@
 """Books: the size of a melody, and the ties and notes that are told of it."""
 
-from turnedtunes.errors import BadBook, BadNote, BadSize, BadText, BadTie, Full
+from turnedtunes.errors import BadBook, BadNote, BadSize, BadTie, Full
 from turnedtunes.errors import NoPlace, NoTie, OtherNote, OtherSize
-from turnedtunes.integers import GREATEST, is_between, is_whole, number_in, written
+from turnedtunes.forms import note_in, size_in, tie_in
+from turnedtunes.integers import GREATEST, is_between, is_whole, written
 from turnedtunes.ties import Tie, is_tie_within
 
 # So many ties a book has at most, and so many notes.
@@ -93,7 +94,7 @@ def _contents(text):
     if not isinstance(text, str):
         raise BadBook(0)
     lines = text.split("\n")
-    size = _size_in(lines[0])
+    size = size_in(lines[0])
     if size is None:
         raise BadBook(1)
     ties = _first_ties(lines[1:], size)
@@ -108,7 +109,7 @@ def _first_ties(lines, size):
     """The ties of these lines, up to the first line that cannot stand there."""
     ties = []
     for line in lines:
-        tie = _tie_in(line, size)
+        tie = tie_in(line, size)
         if tie is None or len(ties) == MOST:
             break
         ties.append(tie)
@@ -119,41 +120,11 @@ def _first_notes(lines, size):
     """The notes of these lines, up to the first line that cannot stand there."""
     notes = []
     for line in lines:
-        note = _note_in(line, size)
+        note = note_in(line, size)
         if note is None or _has_note(notes, note[0]) or len(notes) == MOST:
             break
         notes.append(note)
     return notes
-
-
-def _size_in(line):
-    """The size that a line tells; None if it tells none."""
-    words = line.split(" ")
-    if len(words) != 2 or words[0] != "size":
-        return None
-    size = number_in(words[1])
-    return size if is_between(size, 1, GREATEST) else None
-
-
-def _tie_in(line, size):
-    """The tie within the size that a line tells; None if it tells none."""
-    word, _, text = line.partition(" ")
-    if word != "tie":
-        return None
-    try:
-        tie = Tie.of(text)
-    except BadText:
-        return None
-    return tie if is_tie_within(tie, size) else None
-
-
-def _note_in(line, size):
-    """The (place, note) within the size that a line tells; None if it tells none."""
-    words = line.split(" ")
-    if len(words) != 3 or words[0] != "note":
-        return None
-    place, note = number_in(words[1]), number_in(words[2])
-    return (place, note) if is_between(place, 0, size - 1) and is_whole(note) else None
 
 
 def _has_note(notes, place):
