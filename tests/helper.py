@@ -5,6 +5,9 @@ from itertools import product
 from random import Random
 
 from turnedtunes.books import Book
+from turnedtunes.desk import Desk
+from turnedtunes.hearings import Hearing
+from turnedtunes.melodies import Melody
 from turnedtunes.ties import Tie
 
 FAR = 10 ** 30
@@ -20,7 +23,8 @@ def deep(levels):
 # Values of each kind that are no integer.
 NO_INTEGERS = (
     True, False, None, "", "1", "0 4 4 up 2", "size 4", (), (1,), (0, 1), [], [1], {}, {1: 2}, deep(20),
-    Tie(0, 1, 1), Book("size 4"), Book("size 4\ntie 0 1 1 up 0"),
+    Tie(0, 1, 1), Book("size 4"), Book("size 4\ntie 0 1 1 up 0"), Melody((("new", 1),)), Hearing(4), Desk("size 4"),
+    Hearing(4).trial(), [[()], {"": [None, -1]}], ((True,), [1]),
 )
 
 # Values of each kind that are no bool.
@@ -201,3 +205,20 @@ def kept_books(seed, many, greatest=14, ties=4):
         told = hung(book)
         if told is not None:
             yield book, told
+
+
+def drawn_climbs(seed, many):
+    """(book, what hangs tells of each place): long climbs, parts of which are told again far above or below."""
+    draw = Random(seed)
+    for _ in range(many):
+        step, rows, ahead = draw.randint(1, 4), draw.randint(2, 7), draw.randint(0, 2)
+        size = ahead + step * rows + draw.randint(0, step)
+        ties = [Tie(ahead, ahead + step, size - step - ahead, draw.randint(-3, 3), down=draw.random() < .5)]
+        for _ in range(draw.randint(1, 3)):
+            length = draw.randint(1, min(size, 14))
+            first = draw.randint(0, size - length)
+            ties.append(Tie(first, size, length, draw.choice((-40, -9, 0, 9, 40)), down=draw.random() < .3,
+                            backward=draw.random() < .3))
+            size += length
+        book = book_of(size, ties)
+        yield book, hung(book)

@@ -10,7 +10,7 @@ from turnedtunes.compass import compass, reach, room
 from turnedtunes.errors import BadBounds, Clash, NoPlace, NoRoom
 from turnedtunes.hanging import hangs
 from turnedtunes.ties import Tie
-from tests.helper import FAR, NO_INTEGERS, Case, book_of, drawn_books, hung, keeps, kept_books
+from tests.helper import FAR, NO_INTEGERS, Case, book_of, drawn_books, drawn_climbs, hung, keeps, kept_books
 from tests.test_hanging import CLASHES, FOUR, LONG, SONG, tree_note
 
 
@@ -36,9 +36,13 @@ def choices(found, low, high):
 
 
 def narrowest(found):
-    """The compass, of what hangs tells of each place: all ranges tried out."""
-    greatest = 5 + 2 * max(abs(what[-1]) for what in found)
+    """The compass, of what hangs tells of each place: all ranges tried out that are wide enough for each free note."""
+    greatest = max(abs(what[-1]) for what in found) + 1
     width = 0
+    for word in ("up", "down"):
+        for free in {what[1] for what in found if what[0] == word}:
+            notes = [what[2] for what in found if what[:2] == (word, free)]
+            width = max(width, max(notes) - min(notes))
     while True:
         if any(choices(found, low, low + width) is not None for low in range(-greatest - width, greatest + 1)):
             return width
@@ -102,6 +106,23 @@ class Compass(Case):
             self.same(compass(book), wanted)
             wide += wanted > 2
         self.assertGreater(wide, 50)
+
+    def test_each_part_of_a_climb_told_again(self):
+        for down, amount in ((False, 2), (True, 3)):
+            climb = Tie(1, 3, 12, amount, down=down)
+            for first in range(3, 7):
+                for length in range(1, 16 - first):
+                    for jump in (-15, 15):
+                        book = book_of(15 + length, [climb, Tie(first, 15, length, jump)])
+                        found = hung(book)
+                        self.same(compass(book), narrowest(found))
+                        # Not only the free place that needs the widest range.
+                        counts = Counter(len(notes) for notes in choices(found, -30, 40).values())
+                        self.same(room(book, -30, 40), tuple(sorted(counts.items())))
+
+    def test_parts_of_climbs_held_against_trying_out_all_ranges(self):
+        for book, found in drawn_climbs(seed=118, many=150):
+            self.same(compass(book), narrowest(found))
 
 
 class FarClimbs(Case):
@@ -218,7 +239,8 @@ class Room(Case):
 
     def test_drawn_books_held_against_trying_out_all_notes(self):
         draw, none, downs = Random(114), 0, 0
-        for book, found in [*kept_books(seed=114, many=500), *kept_books(seed=115, many=40, greatest=40, ties=12)]:
+        for book, found in [*kept_books(seed=114, many=500), *kept_books(seed=115, many=40, greatest=40, ties=12),
+                            *drawn_climbs(seed=119, many=200)]:
             width = compass(book)
             for _ in range(4):
                 low = draw.randint(-width - 3, 3)

@@ -7,7 +7,7 @@ from turnedtunes.counting import many, nth, told
 from turnedtunes.errors import BadNumber, Clash, IsTold, NoNumber, NoPlace
 from turnedtunes.hanging import hangs
 from turnedtunes.ties import Tie
-from tests.helper import FAR, NO_INTEGERS, Case, book_of, drawn_books, hung, kept_books
+from tests.helper import FAR, NO_INTEGERS, Case, book_of, drawn_books, drawn_climbs, hung, kept_books
 from tests.test_hanging import CLASHES, FOUR, LONG, SONG
 
 WAYS = ("up", "down")
@@ -63,7 +63,8 @@ class Small(Case):
 
     def test_books_held_against_joining_all_places_one_by_one(self):
         downs = 0
-        for book, found in [*kept_books(seed=101, many=500), *kept_books(seed=102, many=40, greatest=60, ties=12)]:
+        for book, found in [*kept_books(seed=101, many=500), *kept_books(seed=102, many=40, greatest=60, ties=12),
+                            *drawn_climbs(seed=105, many=60)]:
             certain = [place for place in range(book.size) if found[place][0] == "told"]
             for upto in range(book.size + 1):
                 self.same(told(book, upto), sum(place < upto for place in certain))

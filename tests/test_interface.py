@@ -5,6 +5,8 @@ import inspect
 import unittest
 
 from turnedtunes.books import Book
+from turnedtunes.desk import Desk
+from turnedtunes.hearings import Hearing
 from turnedtunes.melodies import Melody
 from turnedtunes.ties import Tie
 
@@ -13,8 +15,12 @@ CLASSES = {
     "ties": {"Tie": (("first", "second", "length", "amount", "down", "backward", "text"), ("of", "led", "part"))},
     "books": {"Book": (("text", "size", "ties", "notes"), ("with_tie", "without", "with_note"))},
     "melodies": {"Melody": (("pieces", "size", "new"), ("played",))},
+    "hearings": {"Hearing": (("size", "book", "free", "done"), ("hear", "note", "forget", "drop", "undo", "redo",
+                                                                "trial", "keep", "tried", "copy"))},
+    "desk": {"Desk": (("hearing",), ("say",))},
 }
-OBJECTS = {"Tie": Tie(0, 1, 2), "Book": Book("size 4"), "Melody": Melody((("new", 1),))}
+OBJECTS = {"Tie": Tie(0, 1, 2), "Book": Book("size 4"), "Melody": Melody((("new", 1),)), "Hearing": Hearing(4),
+           "Desk": Desk("size 4")}
 
 # module: {function: parameters}
 FUNCTIONS = {
@@ -26,6 +32,8 @@ FUNCTIONS = {
     "counting": {"many": "(book, place, upto)", "nth": "(book, place, number)", "told": "(book, upto)"},
     "compass": {"compass": "(book)", "room": "(book, low, high)", "reach": "(book, place, low, high)"},
     "comparing": {"within": "(one, other)", "alike": "(one, other)"},
+    "choosing": {"cheapest": "(book, offers, wishes)"},
+    "journals": {"journal": "(hearing)", "read_journal": "(text)"},
 }
 
 PARAMETERS = {
@@ -40,12 +48,26 @@ PARAMETERS = {
     Book.with_note: "(self, place, note)",
     Melody: "(pieces)",
     Melody.played: "(self, look, first, length)",
+    Hearing: "(size)",
+    Hearing.hear: "(self, tie)",
+    Hearing.note: "(self, place, note)",
+    Hearing.forget: "(self, number)",
+    Hearing.drop: "(self, place)",
+    Hearing.undo: "(self)",
+    Hearing.redo: "(self)",
+    Hearing.trial: "(self)",
+    Hearing.keep: "(self)",
+    Hearing.tried: "(self, look, *, keep=False)",
+    Hearing.copy: "(self)",
+    Desk: "(text)",
+    Desk.say: "(self, line)",
 }
 
 OPERATORS = {
     Tie: ("__call__", "__invert__", "__rshift__", "__mul__", "__eq__"),
     Book: ("__len__", "__getitem__", "__contains__", "__or__", "__add__", "__invert__", "__neg__", "__eq__"),
     Melody: ("__getitem__", "__eq__"),
+    Hearing: ("__len__", "__getitem__", "__setitem__", "__contains__", "__iadd__", "__isub__", "__eq__"),
 }
 
 

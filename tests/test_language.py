@@ -168,6 +168,33 @@ class Language(unittest.TestCase):
                         yield node.lineno
         self.each(wrong)
 
+    def test_no_assignments_by_operators(self):
+        # A class has __iadd__ and __isub__: so what operators run takes no += and no -=.
+        self.each(lambda path: [node.lineno for node in nodes(path) if isinstance(node, ast.AugAssign)])
+
+    def test_what_is_called_where_a_block_is_left(self):
+        # Nothing; and nothing is tested there but whether something is None.
+        def wrong(path):
+            for node in nodes(path):
+                if isinstance(node, ast.FunctionDef) and node.name == "__exit__":
+                    for inner in ast.walk(node):
+                        if isinstance(inner, (ast.Call, ast.BinOp, ast.UnaryOp, ast.Subscript)):
+                            yield inner.lineno
+                        if isinstance(inner, ast.Compare) and ast.unparse(inner.comparators[0]) != "None":
+                            yield inner.lineno
+                        if isinstance(inner, ast.Name) and inner.id in ("value", "trace"):
+                            yield inner.lineno
+        self.each(wrong)
+
+    def test_a_class_with_items_says_how_it_is_iterated(self):
+        def wrong(path):
+            for node in nodes(path):
+                if isinstance(node, ast.ClassDef):
+                    names = {inner.name for inner in node.body if isinstance(inner, ast.FunctionDef)}
+                    if "__getitem__" in names and "__iter__" not in names:
+                        yield node.name
+        self.each(wrong)
+
     def test_errors_that_are_caught(self):
         barred = {"Exception", "TypeError", "ArithmeticError", "OverflowError", "RuntimeError",
                   "NotImplementedError", "AttributeError"}

@@ -89,6 +89,13 @@ class Book:
         return isinstance(other, Book) and self.text == other.text
 
 
+def without_note(book, place):
+    """A book without its note at this place."""
+    if not is_between(place, 0, book.size - 1) or not _has_note(book.notes, place):
+        raise NoPlace(place)
+    return _book_of(book.size, book.ties, [note for note in book.notes if note[0] != place])
+
+
 def _contents(text):
     """The size, the ties and the notes of a text."""
     if not isinstance(text, str):

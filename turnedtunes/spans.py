@@ -4,8 +4,6 @@ A span is (ups, downs): ups are the least and the greatest c of all places that
 hang up by c, downs those of all that hang down; None if none hangs down.
 """
 
-from heapq import heapify, heappop, heappush
-
 from turnedtunes.leads import led_often
 from turnedtunes.pieces import index_at, starts_of
 
@@ -35,14 +33,13 @@ def _marks(pieces, starts):
     # Where a copy changes what it does, or where what hangs on its places
     # changes, what it copies is cut, too: so cuts go on to the left.
     known = {place: True for place in starts}
-    queue = [-place for place in starts]
-    heapify(queue)
-    while queue:
-        place = -heappop(queue)
+    waiting = list(starts)
+    while waiting:
+        place = waiting.pop()
         for source in _sources_of_mark(pieces, starts, place):
             if source not in known:
                 known[source] = True
-                heappush(queue, -source)
+                waiting.append(source)
     return sorted(list(known))
 
 
@@ -91,9 +88,8 @@ def _copied(piece, start, first, end):
     last_row, behind = divmod(end - start, start - source)
     if row == last_row:
         return [(source + ahead, source + behind, led_often(lead, row + 1))]
-    found = [(source + ahead, start, led_often(lead, row + 1))]
-    if behind > 0:
-        found.append((source, source + behind, led_often(lead, last_row + 1)))
+    found = [(source + ahead, start, led_often(lead, row + 1)),
+             (source, source + behind, led_often(lead, last_row + 1))]
     # Of the rows between, the first two and the last one lead furthest, up and down.
     for many in (row + 2, row + 3, last_row):
         if row + 1 < many <= last_row:
